@@ -1,0 +1,1 @@
+"""Spinfloor: signs up and down on a flat web."""

@@ -1,0 +1,50 @@
+"""The names and arguments of the document's interface are there as they stand."""
+
+import importlib
+import inspect
+import unittest
+
+FUNCTIONS = {
+    "masks": {"ones": ["mask"], "odd": ["mask"], "bits": ["mask"], "mask_of": ["places"]},
+    "ties": {"tie_of": ["one", "two", "signed"]},
+    "darts": {
+        "tail": ["ties", "dart"],
+        "head": ["ties", "dart"],
+        "follower": ["ties", "turns", "dart"],
+        "rounds_of": ["ties", "turns"],
+        "sides_of": ["ties", "rounds"],
+    },
+}
+MADE_WITH = {
+    "errors": {"BadText": ["at"], "NoLaying": ["at"]},
+    "ties": {kind: ["one", "two", "strength"] for kind in ["Tie", "Pull", "Push"]},
+}
+TIE_METHODS = {"wish": [], "unpleased": ["laying"], "price": ["laying"], "signed": [], "across": ["place"]}
+
+
+def found(module, name):
+    return getattr(importlib.import_module("spinfloor." + module), name)
+
+
+class Interface(unittest.TestCase):
+    def holds(self, told, arguments):
+        self.assertEqual(list(inspect.signature(told).parameters), arguments)
+
+    def test_functions(self):
+        for module, names in FUNCTIONS.items():
+            for name, arguments in names.items():
+                self.holds(found(module, name), arguments)
+
+    def test_makings(self):
+        for module, names in MADE_WITH.items():
+            for name, arguments in names.items():
+                self.holds(found(module, name).__init__, ["self"] + arguments)
+
+    def test_methods_of_ties(self):
+        for kind in ["Tie", "Pull", "Push"]:
+            for name, arguments in TIE_METHODS.items():
+                self.holds(getattr(found("ties", kind), name), ["self"] + arguments)
+
+
+if __name__ == "__main__":
+    unittest.main()
