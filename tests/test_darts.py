@@ -1,54 +1,10 @@
 """Points 2.1, 2.2 and 2.3: darts, rounds and sides."""
 
 import copy
-import itertools
 import unittest
 
+from samples import all_turns, doubled_ring, fields, grid, ties_of
 from spinfloor.darts import follower, head, rounds_of, sides_of, tail
-from spinfloor.ties import Pull, Push
-
-
-def ties_of(ends):
-    # The kinds alternate, since neither kind nor strength may matter here.
-    return [(Push if i % 2 else Pull)(one, two, i) for i, (one, two) in enumerate(ends)]
-
-
-def fields(ties):
-    return [(type(tie), tie.one, tie.two, tie.strength) for tie in ties]
-
-
-def plain_turns(many, ties):
-    return [[i for i, tie in enumerate(ties) if place in (tie.one, tie.two)] for place in range(many)]
-
-
-def all_turns(many, ties):
-    lists = [list(itertools.permutations(about)) for about in plain_turns(many, ties)]
-    for chosen in itertools.product(*lists):
-        yield [list(about) for about in chosen]
-
-
-def grid(rows, columns):
-    # Places row by row; the turns tell the ties above, to the right, below and to the left.
-    number_of, ends = {}, []
-    for r, c in itertools.product(range(rows), range(columns)):
-        for down, right in [(0, 1), (1, 0)]:
-            if r + down < rows and c + right < columns:
-                number_of[(r, c), (r + down, c + right)] = len(ends)
-                number_of[(r + down, c + right), (r, c)] = len(ends)
-                ends.append((r * columns + c, (r + down) * columns + c + right))
-    turns = []
-    for r, c in itertools.product(range(rows), range(columns)):
-        near = [(r - 1, c), (r, c + 1), (r + 1, c), (r, c - 1)]
-        turns.append([number_of[(r, c), there] for there in near if ((r, c), there) in number_of])
-    return ties_of(ends), turns
-
-
-def doubled_ring(many):
-    # Two ties with the same ends from each place to the next one; tie 2 * p is the outer one of place p.
-    ends = [(p, (p + 1) % many) for p in range(many) for twice in range(2)]
-    turns = [[2 * p, 2 * p + 1, (2 * p - 1) % (2 * many), (2 * p - 2) % (2 * many)] for p in range(many)]
-    return ties_of(ends), turns
-
 
 TRIANGLE = ties_of([(0, 1), (1, 2), (0, 2)])
 TRIANGLE_TURNS = [[0, 2], [0, 1], [1, 2]]

@@ -14,10 +14,21 @@ FUNCTIONS = {
         "rounds_of": ["ties", "turns"],
         "sides_of": ["ties", "rounds"],
     },
+    "texts": {"written": ["web"], "read": ["text"]},
+    "layings": {
+        "unpleased": ["web", "laying"],
+        "worth": ["web", "laying"],
+        "odd_rounds": ["web"],
+        "odd_at": ["web", "ties", "number"],
+        "laying_of": ["web", "ties"],
+    },
+    "patches": {"rim": ["web", "patch"], "gain": ["web", "laying", "patch"], "pieces": ["web", "patch"]},
+    "other": {"links_of": ["web"]},
 }
 MADE_WITH = {
     "errors": {"BadText": ["at"], "NoLaying": ["at"]},
     "ties": {kind: ["one", "two", "strength"] for kind in ["Tie", "Pull", "Push"]},
+    "webs": {"Web": ["many", "ties", "turns"]},
 }
 TIE_METHODS = {"wish": [], "unpleased": ["laying"], "price": ["laying"], "signed": [], "across": ["place"]}
 

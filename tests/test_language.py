@@ -130,6 +130,41 @@ class Language(unittest.TestCase):
         for where, node in self.every(ast.arguments):
             self.assertEqual((node.vararg, node.kwarg, node.kwonlyargs, node.posonlyargs), (None, None, [], []), where)
 
+    def test_expressions(self):
+        for where, node in self.every(ast.BinOp):
+            if isinstance(node.op, ast.Pow):
+                self.assertIsInstance(node.right, ast.Constant, where)
+                self.assertIn(node.right.value, range(65), where)
+        for where, node in self.every(ast.Compare):
+            for operator, value in zip(node.ops, node.comparators):
+                if isinstance(operator, (ast.Is, ast.IsNot)):
+                    self.assertIsInstance(value, ast.Constant, where)
+                    self.assertIn(value.value, (None, True, False), where)
+        for where, node in self.every(ast.ListComp):
+            self.assertEqual(len(node.generators), 1, where)
+            self.assertLessEqual(len(node.generators[0].ifs), 1, where)
+        for where, node in self.every(ast.FormattedValue):
+            self.assertIsInstance(node.value, ast.Name, where)
+            self.assertIsNone(node.format_spec, where)
+        for where, node in self.every((ast.Set, ast.Starred)):
+            self.fail(where)
+        for where, node in self.every(ast.keyword):
+            self.assertIn(node.arg, ("key", "reverse", "default", "start", "strict"), where)
+
+    def test_plain_values_at_the_top(self):
+        plain = (ast.Constant, ast.List, ast.Tuple, ast.Dict, ast.Load)
+        for name, tree in self.trees.items():
+            for node in tree.body:
+                if isinstance(node, ast.Assign):
+                    for part in ast.walk(node.value):
+                        self.assertIsInstance(part, plain, f"{name}.py:{node.lineno}")
+
+    def test_walked_at_once(self):
+        # Where these stand bare in an assignment or a return they would be kept.
+        for where, node in self.every((ast.Assign, ast.Return)):
+            if isinstance(node.value, ast.Call) and isinstance(node.value.func, ast.Name):
+                self.assertNotIn(node.value.func.id, ("zip", "enumerate", "reversed", "range", "set", "frozenset"), where)
+
     def test_texts_by_themselves(self):
         docs = {id(tree.body[0]) for tree in self.trees.values()}
         for where, node in self.every(ast.Expr):
@@ -156,6 +191,15 @@ class Language(unittest.TestCase):
                 self.assertTrue(each in TWO_UNDERSCORES or re.fullmatch(r"[A-Za-z][A-Za-z0-9_]*", each), (name, each))
             for each in top + within:
                 self.assertNotIn(each, python_s, name)
+            classes = [node.name for node in tree.body if isinstance(node, ast.ClassDef)]
+            for each in within:
+                self.assertNotIn(each, classes + imported(tree), name)
+
+    def test_no_name_is_a_method_and_a_value(self):
+        methods = {each.name for where, node in self.every(ast.ClassDef) for each in node.body if hasattr(each, "name")}
+        for where, node in self.every(ast.Attribute):
+            if isinstance(node.ctx, ast.Store):
+                self.assertNotIn(node.attr, methods, where)
 
     def test_methods(self):
         pythons = {each for value in ("", 0, [], {}, set(), b"", ()) for each in dir(value)} - OWN_METHODS

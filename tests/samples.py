@@ -1,0 +1,155 @@
+"""Webs, rooms and links that several tests take, made without chance."""
+
+import itertools
+
+from spinfloor.ties import Pull, Push
+from spinfloor.webs import Web
+
+GREATEST = 10 ** 30
+STRENGTHS = [0, 1, 1, 2, 3, 3, 5, 8, GREATEST]
+
+
+class Dice:
+    """A fixed row of numbers that look as if by chance, the same under every Python."""
+
+    def __init__(self, seed):
+        self.state = seed
+
+    def under(self, bound):
+        self.state = (self.state * 6364136223846793005 + 1442695040888963407) % 2 ** 64
+        return (self.state >> 33) % bound
+
+    def one_of(self, things):
+        return things[self.under(len(things))]
+
+    def mixed(self, things):
+        left, row = list(things), []
+        while left:
+            row.append(left.pop(self.under(len(left))))
+        return row
+
+
+def ties_of(ends):
+    # The kinds alternate, so that neither kind is left out.
+    return [(Push if i % 2 else Pull)(one, two, i) for i, (one, two) in enumerate(ends)]
+
+
+def fields(ties):
+    return [(type(tie), tie.one, tie.two, tie.strength) for tie in ties]
+
+
+def all_fields(web):
+    return (web.many, fields(web.ties), web.turns, web.rounds, web.sides)
+
+
+def plain_turns(many, ties):
+    return [[i for i, tie in enumerate(ties) if place in (tie.one, tie.two)] for place in range(many)]
+
+
+def all_turns(many, ties):
+    lists = [list(itertools.permutations(about)) for about in plain_turns(many, ties)]
+    for chosen in itertools.product(*lists):
+        yield [list(about) for about in chosen]
+
+
+def grid(rows, columns):
+    # Places row by row; the turns tell the ties above, to the right, below and to the left.
+    number_of, ends = {}, []
+    for r, c in itertools.product(range(rows), range(columns)):
+        for down, right in [(0, 1), (1, 0)]:
+            if r + down < rows and c + right < columns:
+                number_of[(r, c), (r + down, c + right)] = len(ends)
+                number_of[(r + down, c + right), (r, c)] = len(ends)
+                ends.append((r * columns + c, (r + down) * columns + c + right))
+    turns = []
+    for r, c in itertools.product(range(rows), range(columns)):
+        near = [(r - 1, c), (r, c + 1), (r + 1, c), (r, c - 1)]
+        turns.append([number_of[(r, c), there] for there in near if ((r, c), there) in number_of])
+    return ties_of(ends), turns
+
+
+def doubled_ring(many):
+    # Two ties with the same ends from each place to the next one; tie 2 * p is the outer one of place p.
+    ends = [(p, (p + 1) % many) for p in range(many) for twice in range(2)]
+    turns = [[2 * p, 2 * p + 1, (2 * p - 1) % (2 * many), (2 * p - 2) % (2 * many)] for p in range(many)]
+    return ties_of(ends), turns
+
+
+def corners(ends, turns):
+    """The rounds, walked without the program: for each its corners, a place and where a tie could come into its list."""
+    darts = [(i, way) for i in range(len(ends)) for way in range(2)]
+    while darts:
+        first, dart, row = darts[0], None, []
+        while dart != first:
+            i, way = dart = dart or first
+            darts.remove(dart)
+            place = ends[i][1 - way]
+            spot = turns[place].index(i) + 1
+            row.append((place, spot))
+            behind = turns[place][spot % len(turns[place])]
+            dart = (behind, ends[behind].index(place))
+        yield row
+
+
+def grown_ends(dice, many, ties):
+    """Ends and turns of a flat web: a tree, and then ties each of which parts a round in two."""
+    ends, turns = [(0, 1)], [[0], [0]]
+    for place in range(2, many):
+        there = dice.under(place)
+        turns[there].insert(dice.under(len(turns[there]) + 1), len(ends))
+        turns.append([len(ends)])
+        ends.append((there, place))
+    while len(ends) < ties:
+        row = dice.one_of(list(corners(ends, turns)))
+        one, spot = dice.one_of(row)
+        two, other_spot = dice.one_of([corner for corner in row if corner[0] != one])
+        turns[one].insert(spot, len(ends))
+        turns[two].insert(other_spot, len(ends))
+        ends.append((one, two))
+    return ends, turns
+
+
+def grown(seed, many, ties, strengths=STRENGTHS):
+    """A flat web with its places and ties numbered anew, their ends and the turns' first ties taken anyhow."""
+    dice = Dice(seed)
+    ends, turns = grown_ends(dice, many, ties)
+    places, order = dice.mixed(range(many)), dice.mixed(range(ties))
+    made = []
+    for i in order:
+        one, two = dice.mixed([places[end] for end in ends[i]])
+        made.append(dice.one_of([Pull, Push])(one, two, dice.one_of(strengths)))
+    lists = [None] * many
+    for place, about in enumerate(turns):
+        cut = dice.under(len(about))
+        lists[places[place]] = [order.index(i) for i in about[cut:] + about[:cut]]
+    return Web(many, made, lists)
+
+
+def small_webs(most_places=6, most_ties=9, count=60):
+    for seed in range(count):
+        many = 2 + seed % (most_places - 1)
+        yield grown(seed, many, many - 1 + seed // 7 % (most_ties - many + 2))
+
+
+def great_webs():
+    """Webs at the bounds: 40 places, 80 ties, or both."""
+    yield Web(40, *grid(5, 8))
+    yield Web(40, *doubled_ring(40))
+    yield grown(1, 40, 39)
+    yield grown(2, 40, 80)
+    yield grown(3, 2, 80)
+    yield grown(4, 17, 80, [GREATEST])
+    yield grown(5, 40, 80, [0])
+
+
+def down(mask, number):
+    return mask // 2 ** number % 2
+
+
+def alike(laying, tie):
+    return down(laying, tie.one) == down(laying, tie.two)
+
+
+def cost_of(web, laying):
+    """A laying's worth, told without the program's words for it."""
+    return sum(tie.strength for tie in web.ties if alike(laying, tie) == isinstance(tie, Push))
