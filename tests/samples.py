@@ -153,3 +153,72 @@ def alike(laying, tie):
 def cost_of(web, laying):
     """A laying's worth, told without the program's words for it."""
     return sum(tie.strength for tie in web.ties if alike(laying, tie) == isinstance(tie, Push))
+
+
+LONGEST = 10 ** 31
+LENGTHS = [0, 1, 1, 2, 3, 3, 5, 8, LONGEST]
+
+
+def strewn(seed, many, links, lengths=LENGTHS):
+    """Links anyhow: rooms needn't hang together, some links have the same ends, some lead from a room to itself."""
+    dice = Dice(1000 + seed)
+    return [(dice.under(many), dice.under(many), dice.one_of(lengths)) for times in range(links)]
+
+
+def hanging(seed, many, links, lengths=LENGTHS):
+    """As many links, but so that all rooms hang together, numbered anyhow."""
+    dice = Dice(2000 + seed)
+    tree = [(dice.under(room), room, dice.one_of(lengths)) for room in range(1, many)]
+    numbers = dice.mixed(range(many))
+    made = []
+    for one, two, length in tree + strewn(seed, many, links - len(tree), lengths):
+        one, two = dice.mixed([numbers[one], numbers[two]])
+        made.append((one, two, length))
+    return dice.mixed(made)
+
+
+def some_marks(seed, many, count):
+    return sum(2 ** room for room in Dice(3000 + seed).mixed(range(many))[:count])
+
+
+def line(many, length=1):
+    return [(room, room + 1, length) for room in range(many - 1)]
+
+
+def marked_rooms(count=150):
+    """Small ones, with an even number of marks: a number of rooms, links, marks."""
+    lists = [[1], [0, 1], [1, 2, 3], [0, 1, 2, 5, 9], LENGTHS, [LONGEST, LONGEST - 1]]
+    for seed in range(count):
+        many = 1 + seed % 7
+        links = hanging(seed, many, many - 1 + seed // 7 % 6, lists[seed % 11 % 6])
+        yield many, links, some_marks(seed, many, seed // 5 % (many // 2 + 1) * 2)
+
+
+def great_rooms():
+    """The same at the bounds: 80 rooms, 80 links, 14 marks."""
+    lists = [[1], LENGTHS, [LONGEST, LONGEST - 7, 1], list(range(1, 90, 2)), [0]]
+    for seed, (many, links, count) in enumerate([
+        (80, 79, 14), (80, 80, 14), (80, 80, 0), (60, 80, 14), (41, 80, 12), (14, 80, 14), (15, 80, 14), (2, 80, 2),
+        (30, 80, 14), (24, 80, 14), (1, 80, 0),
+    ]):
+        for lengths in [lists[seed % 5], lists[(seed + 3) % 5]]:
+            yield many, hanging(seed, many, links, lengths), some_marks(seed, many, count)
+
+
+def length_of(links, used):
+    return sum(length for number, (one, two, length) in enumerate(links) if down(used, number))
+
+
+def ends_odd(many, links, used):
+    """The mask of the rooms at which an odd number of ends of the links stand, told without the program."""
+    ends = [end for number, link in enumerate(links) if down(used, number) for end in link[:2]]
+    return sum(2 ** room for room in range(many) if ends.count(room) % 2)
+
+
+def least_costs(many, links):
+    """For each mask of marks that can be joined what a cheapest joining costs: all sets of links are gone through."""
+    least = {}
+    for used in range(2 ** len(links)):
+        marks, cost = ends_odd(many, links, used), length_of(links, used)
+        least[marks] = min(cost, least.get(marks, cost))
+    return least

@@ -24,6 +24,18 @@ FUNCTIONS = {
     },
     "patches": {"rim": ["web", "patch"], "gain": ["web", "laying", "patch"], "pieces": ["web", "patch"]},
     "other": {"links_of": ["web"]},
+    "fares": {
+        "fares": ["many", "links", "start"],
+        "row_to": ["links", "via", "room"],
+        "whole": ["many", "links"],
+    },
+    "pairing": {
+        "odd_ends": ["links", "used"],
+        "paired": ["many", "links", "marks"],
+        "heights": ["many", "links", "marks"],
+    },
+    "hills": {"hills": ["many", "links", "marks"]},
+    "examiner": {"examined": ["many", "links", "marks", "used", "paper"]},
 }
 MADE_WITH = {
     "errors": {"BadText": ["at"], "NoLaying": ["at"]},

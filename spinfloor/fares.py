@@ -1,0 +1,46 @@
+"""Fares between rooms, the least sums of lengths of rows of links."""
+
+from spinfloor.reach import reached
+
+
+def beyond(link, room):
+    return link[1] if room == link[0] else link[0]
+
+
+def nearest(told, done):
+    waiting = [room for room, fare in enumerate(told) if fare is not None and room not in done]
+    return min(waiting, key=lambda room: told[room], default=None)
+
+
+def fares(many, links, start):
+    told = [None for room in range(many)]
+    via = [None for room in range(many)]
+    done = {}
+    told[start] = 0
+    room = start
+    while room is not None:
+        done[room] = True
+        for number, link in enumerate(links):
+            if room in (link[0], link[1]):
+                there = beyond(link, room)
+                fare = told[room] + link[2]
+                # Only a lesser fare counts: so a room that is done keeps its link, and links of length
+                # nought never lead back in a ring.
+                if told[there] is None or fare < told[there]:
+                    told[there] = fare
+                    via[there] = number
+        room = nearest(told, done)
+    return (told, via)
+
+
+def row_to(links, via, room):
+    back = []
+    here = room
+    while via[here] is not None:
+        back.append(via[here])
+        here = beyond(links[via[here]], here)
+    return list(reversed(back))
+
+
+def whole(many, links):
+    return reached(0, [(link[0], link[1]) for link in links]) == (1 << many) - 1
