@@ -2,7 +2,7 @@
 
 import unittest
 
-from samples import LONGEST, Dice, down, ends_odd, great_rooms, hanging, least_costs, length_of, line, marked_rooms
+from samples import LONGEST, down, ends_odd, great_rooms, hanging, least_costs, length_of, line, marked_rooms
 from samples import some_marks
 from spinfloor.errors import FloorError, OddMarks, Parted, TooRough
 from spinfloor.fares import fares
