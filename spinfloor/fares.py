@@ -12,7 +12,16 @@ def nearest(told, done):
     return min(waiting, key=lambda room: told[room], default=None)
 
 
+def links_at(many, links):
+    at = [[] for room in range(many)]
+    for number, link in enumerate(links):
+        at[link[0]].append(number)
+        at[link[1]].append(number)
+    return at
+
+
 def fares(many, links, start):
+    at = links_at(many, links)
     told = [None for room in range(many)]
     via = [None for room in range(many)]
     done = {}
@@ -20,15 +29,14 @@ def fares(many, links, start):
     room = start
     while room is not None:
         done[room] = True
-        for number, link in enumerate(links):
-            if room in (link[0], link[1]):
-                there = beyond(link, room)
-                fare = told[room] + link[2]
-                # Only a lesser fare counts: so a room that is done keeps its link, and links of length
-                # nought never lead back in a ring.
-                if told[there] is None or fare < told[there]:
-                    told[there] = fare
-                    via[there] = number
+        for number in at[room]:
+            there = beyond(links[number], room)
+            fare = told[room] + links[number][2]
+            # Only a lesser fare counts: so a room that is done keeps its link, and links of length
+            # nought never lead back in a ring.
+            if told[there] is None or fare < told[there]:
+                told[there] = fare
+                via[there] = number
         room = nearest(told, done)
     return (told, via)
 

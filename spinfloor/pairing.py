@@ -28,31 +28,32 @@ def chosen_of(entries, numbers):
     return [entries[number] for number in numbers]
 
 
-def best_pair(between, table, chosen):
-    numbers = bits(chosen)
-    if len(numbers) % 2 == 1:
-        return None
-    first = numbers[0]
-    rest = chosen ^ (1 << first)
-    return min([(between[first][mate] + table[rest ^ (1 << mate)][0], first, mate) for mate in numbers[1:]])
+# The least sum of fares with which the rooms of a set can be laid in pairs, and one of these pairs, a number and its
+# mate. The table keeps what was found. Always the first room is paired next: so few of all sets are met.
+def laid_in_pairs(between, chosen, table):
+    if chosen not in table:
+        numbers = bits(chosen)
+        first = numbers[0]
+        ways = []
+        for mate in numbers[1:]:
+            rest = chosen ^ (1 << first) ^ (1 << mate)
+            ways.append((between[first][mate] + laid_in_pairs(between, rest, table)[0], first, mate))
+        table[chosen] = min(ways)
+    return table[chosen]
 
 
-# For each set of the rooms between which the fares are told, in the order of the masks: the least sum of fares with
-# which they can be laid in pairs, and one of these pairs. It stands on the entries of lesser sets, ahead of it.
-def pair_table(between):
-    table = [(0, None, None)]
-    for chosen in range(1, 1 << len(between)):
-        table.append(best_pair(between, table, chosen))
-    return table
+def new_table():
+    return {0: (0, None, None)}
 
 
 def paired(many, links, marks):
     refuse_marks(many, links, marks)
     rooms = bits(marks)
     found = [fares(many, links, room) for room in rooms]
-    table = pair_table([chosen_of(told, rooms) for told, via in found])
-    left = len(table) - 1
-    cost = table[left][0]
+    between = [chosen_of(told, rooms) for told, via in found]
+    table = new_table()
+    left = (1 << len(rooms)) - 1
+    cost = laid_in_pairs(between, left, table)[0]
     used = 0
     while left != 0:
         first = table[left][1]
@@ -74,10 +75,11 @@ def heights(many, links, marks):
     root = root_of(marks)
     others = bits(marks ^ (1 << root))
     found = [fares(many, links, room)[0] for room in others]
-    table = pair_table([chosen_of(told, others) for told in found])
-    everyone = len(table) - 1
+    between = [chosen_of(told, others) for told in found]
+    table = new_table()
+    everyone = (1 << len(others)) - 1
+    rests = [laid_in_pairs(between, everyone ^ (1 << number), table)[0] for number in range(len(others))]
     costs = []
     for room in range(many):
-        ways = [told[room] + table[everyone ^ (1 << number)][0] for number, told in enumerate(found)]
-        costs.append(min(ways))
+        costs.append(min([told[room] + rest for told, rest in zip(found, rests)]))
     return [costs[root] - cost for cost in costs]

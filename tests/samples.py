@@ -222,3 +222,109 @@ def least_costs(many, links):
         marks, cost = ends_odd(many, links, used), length_of(links, used)
         least[marks] = min(cost, least.get(marks, cost))
     return least
+
+
+def rooms_between(web, one, two):
+    """The numbers of ties over which one comes from a round to another one; told without the program's fares."""
+    via, row = {one: None}, [one]
+    for here in row:
+        for number, (left, right) in enumerate(web.sides):
+            for there in (left, right):
+                if here in (left, right) and there not in via:
+                    via[there] = (number, here)
+                    row.append(there)
+    found = []
+    while via[two] is not None:
+        number, two = via[two]
+        found.append(number)
+    return found
+
+
+def with_odd(web, seed, count, strengths=STRENGTHS):
+    """The same places and turns, with just `count` odd rounds; kinds and strengths taken anyhow."""
+    dice = Dice(4000 + seed)
+    pushing = [0] * len(web.ties)
+    chosen = dice.mixed(range(len(web.rounds)))[:count]
+    for one, two in zip(chosen[::2], chosen[1::2]):
+        for number in rooms_between(web, one, two):
+            pushing[number] ^= 1
+    for place in range(web.many):
+        # A place whose ties all change their kinds leaves the odd rounds as they are.
+        if dice.under(2):
+            for number in web.turns[place]:
+                pushing[number] ^= 1
+    ties = [
+        (Push if push else Pull)(tie.one, tie.two, dice.one_of(strengths)) for push, tie in zip(pushing, web.ties)
+    ]
+    return Web(web.many, ties, web.turns)
+
+
+def triangles(many):
+    """A flat web of `many` places whose rounds all have three darts, grown by parting a round from within."""
+    ends, turns = [(0, 1), (1, 2), (2, 0)], [[0, 2], [1, 0], [2, 1]]
+    for place in range(3, many):
+        row = [corner for corner in corners(ends, turns)][place * 5 % (2 * place - 4)]
+        turns.append([])
+        for there, spot in row:
+            turns[there].insert(spot, len(ends))
+            turns[place].insert(0, len(ends))
+            ends.append((there, place))
+    return ties_of(ends), turns
+
+
+def tried_webs(count=120, most_places=7):
+    """Small webs whose layings can all be gone through, with strengths of several kinds."""
+    lists = [[1], [0, 1], STRENGTHS, [1, 2, 3], [5, 6, 7, 11], [0, GREATEST]]
+    for seed in range(count):
+        many = 2 + seed % (most_places - 1)
+        yield grown(7000 + seed, many, many - 1 + seed // 5 % 9, lists[seed % 11 % 6])
+
+
+def bound_webs(count, strengths=STRENGTHS):
+    """Webs at the bounds, each with just `count` odd rounds."""
+    for seed, web in enumerate([*great_webs(), Web(28, *triangles(28))]):
+        if count <= len(web.rounds):
+            yield with_odd(web, seed, count, strengths)
+
+
+def all_costs(web):
+    """The worth of each laying, in the order of the masks, told without the program."""
+    return [cost_of(web, laying) for laying in range(2 ** web.many)]
+
+
+def odd_ones(web):
+    """The numbers of the odd rounds, told without the program."""
+    return [
+        number for number, row in enumerate(web.rounds)
+        if sum(isinstance(web.ties[dart // 2], Push) for dart in row) % 2
+    ]
+
+
+def broken(web, laying, paper):
+    """The letters of the sentences of 5.6, as 6.2 takes them, that don't hold; (a) holds for every laying."""
+    letters = ""
+    odd = sum(2 ** number for number in odd_ones(web))
+    for rounds, price in paper:
+        fits = 0 <= rounds < 2 ** len(web.rounds) and price >= 1
+        if "b" not in letters and not (fits and bin(rounds & odd).count("1") % 2):
+            letters += "b"
+    for tie, (left, right) in zip(web.ties, web.sides):
+        paid = sum(price for rounds, price in paper if (rounds >> left & 1) != (rounds >> right & 1))
+        if "c" not in letters and paid > 2 * tie.strength:
+            letters += "c"
+    if sum(price for rounds, price in paper) != 2 * cost_of(web, laying):
+        letters += "d"
+    return letters
+
+
+def triangle(first=3, second=4, third=5):
+    """Both its rounds are odd: one of its ties is always unpleased."""
+    return Web(3, [Pull(0, 1, first), Pull(1, 2, second), Push(0, 2, third)], [[0, 2], [0, 1], [1, 2]])
+
+
+def is_number(value):
+    return type(value) is int
+
+
+def is_pair(value):
+    return type(value) is tuple and len(value) == 2 and all(is_number(each) for each in value)

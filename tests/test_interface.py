@@ -36,6 +36,15 @@ FUNCTIONS = {
     },
     "hills": {"hills": ["many", "links", "marks"]},
     "examiner": {"examined": ["many", "links", "marks", "used", "paper"]},
+    "least": {"least": ["web"], "certain": ["web", "laying", "paper"]},
+    "roofs": {"with_pull": ["web", "number", "pull"], "roof": ["web", "number"], "at_pull": ["pair", "pull"]},
+    "alike": {"both_ways": ["web"], "set_ties": ["web"]},
+    "allleast": {
+        "tight_ties": ["web", "paper"],
+        "all_least": ["web", "most"],
+        "free_steps": ["web", "one", "two"],
+    },
+    "fronts": {"fronts": ["web", "order"]},
 }
 MADE_WITH = {
     "errors": {"BadText": ["at"], "NoLaying": ["at"]},
