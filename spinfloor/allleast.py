@@ -6,7 +6,7 @@ that have ties to places ahead.
 
 from spinfloor.errors import TooMany
 from spinfloor.examiner import paid_over
-from spinfloor.fronts import fronts
+from spinfloor.fronts import fronts, ties_back
 from spinfloor.least import least
 from spinfloor.masks import bits, mask_of, ones
 from spinfloor.other import links_of
@@ -69,15 +69,9 @@ def cost_if_tight(ties, signs):
 # behind it.
 def stations(web, order, tight):
     found = []
-    behind = 0
-    for place, front in zip(order, fronts(web, order)[1:]):
-        back = []
-        for number in web.turns[place]:
-            tie = web.ties[number]
-            if ((behind >> tie.across(place)) & 1) == 1:
-                back.append((tie, ((tight >> number) & 1) == 1))
-        found.append((place, back, front))
-        behind = behind | (1 << place)
+    for place, back, front in zip(order, ties_back(web, order), fronts(web, order)[1:]):
+        ties = [(web.ties[number], ((tight >> number) & 1) == 1) for number in back]
+        found.append((place, ties, front))
     return found
 
 

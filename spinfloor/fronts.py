@@ -28,3 +28,13 @@ def fronts(web, order=None):
         behind = behind | (1 << place)
         found.append(front_of(web, behind))
     return found
+
+
+# For each place of an order the numbers of the ties that lead from it back to places ahead of it in the order.
+def ties_back(web, order):
+    found = []
+    behind = 0
+    for place in order:
+        behind = behind | (1 << place)
+        found.append([number for number in web.turns[place] if ends_within(web.ties[number], behind) == 2])
+    return found

@@ -2,6 +2,7 @@
 
 import itertools
 
+from spinfloor.errors import FloorError
 from spinfloor.ties import Pull, Push
 from spinfloor.webs import Web
 
@@ -328,3 +329,69 @@ def is_number(value):
 
 def is_pair(value):
     return type(value) is tuple and len(value) == 2 and all(is_number(each) for each in value)
+
+
+def star(leaves, strength=1):
+    """A place with ties to all others; its number is the last one."""
+    ties = [(Push if i % 2 else Pull)(i, leaves, strength) for i in range(leaves)]
+    return Web(leaves + 1, ties, [[i] for i in range(leaves)] + [list(range(leaves))])
+
+
+def refusal(ask, *asked):
+    """The class with which a question is refused, or None."""
+    try:
+        ask(*asked)
+    except FloorError as refused:
+        return type(refused)
+    return None
+
+
+SIGNED = [0, 0, 1, 1, -1, -1, 2, -2, 3, -5, GREATEST, -GREATEST]
+
+
+def patterns(count=80, strengths=SIGNED):
+    """Patterns of one to three rows and one to six columns."""
+    for seed in range(count):
+        dice = Dice(5000 + seed)
+        rows, length = 1 + seed % 3, 1 + seed // 3 % 6
+        yield [
+            ([dice.one_of(strengths) for r in range(rows - 1)], [dice.one_of(strengths) for r in range(rows)])
+            for column in range(length)
+        ]
+
+
+def paid(signed, unlike):
+    """What a tie of a signed strength pays."""
+    if unlike:
+        return signed if signed > 0 else 0
+    return -signed if signed < 0 else 0
+
+
+def strip_cost(pattern, signs):
+    """The worth of a strip whose columns have these signs."""
+    cost = 0
+    for column, mask in enumerate(signs):
+        across, along = pattern[column % len(pattern)]
+        cost += sum(paid(signed, (mask >> r & 1) != (mask >> r + 1 & 1)) for r, signed in enumerate(across))
+        if column + 1 < len(signs):
+            then = signs[column + 1]
+            cost += sum(paid(signed, (mask >> r & 1) != (then >> r & 1)) for r, signed in enumerate(along))
+    return cost
+
+
+def strip_costs(pattern, columns):
+    rows = len(pattern[0][1])
+    return [strip_cost(pattern, signs) for signs in itertools.product(range(2 ** rows), repeat=columns)]
+
+
+def wrong_patterns():
+    """Each wrong in one way alone, or by little."""
+    right = ([1, 2], [3, 4, 5])
+    return [
+        [], [right] * 7, [right] * 12, [([], [])], [([], []), ([], [])], [([1, 2, 3], [1, 2, 3, 4])],
+        [([], [1, 2])], [([1], [1])], [([1], [1, 2, 3])], [([1, 2, 3], [1, 2, 3])], [([1, 2], [1, 2])],
+        [right, ([1], [1, 2])], [([], [1]), ([1], [1, 2])], [right] * 5 + [([], [1])], [right, ([1], [3, 4, 5])],
+        [right, ([1, 2, 3], [3, 4, 5])], [([1, 2, 3], [1, 2, 3, 4])] * 6, [right, ([], [])], [([], []), right],
+        [([1], [])], [([1], [1, 2]), ([], [1])], [right, ([1, 2], [1, 2])], [right, ([1, 2], [1, 2, 3, 4])],
+        [([1, 2], [1, 2]), right], [right, ([1, 2], [])], [([1], [1, 2]), ([1], [1, 2, 3])],
+    ]

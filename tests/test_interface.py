@@ -45,6 +45,10 @@ FUNCTIONS = {
         "free_steps": ["web", "one", "two"],
     },
     "fronts": {"fronts": ["web", "order"]},
+    "tables": {"front_table": ["web", "order", "count"], "least_many": ["web", "order"]},
+    "worths": {"worths": ["web", "order"]},
+    "powers": {"tables_joined": ["one", "two", "modulus"], "table_power": ["table", "times", "modulus"]},
+    "strips": {"step_table": ["pattern"], "strip_least": ["pattern", "columns", "modulus"]},
 }
 MADE_WITH = {
     "errors": {"BadText": ["at"], "NoLaying": ["at"]},
