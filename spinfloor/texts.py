@@ -37,16 +37,16 @@ def first_word(row):
     return row.partition(" ")[0]
 
 
-def numbers_behind(first, row):
+def numbers_behind(first, row, figures):
     words = row.split(" ")
-    numbers = [number_of(word, MOST_FIGURES) for word in words[1:]]
+    numbers = [number_of(word, figures) for word in words[1:]]
     if words[0] != first or None in numbers:
         return None
     return numbers
 
 
 def places_told(row):
-    numbers = numbers_behind("places", row)
+    numbers = numbers_behind("places", row, MOST_FIGURES)
     if numbers is None or len(numbers) != 1 or numbers[0] < 2 or numbers[0] > 40:
         return None
     return numbers[0]
@@ -54,14 +54,14 @@ def places_told(row):
 
 def tie_told(row):
     kind = first_word(row)
-    numbers = numbers_behind(kind, row)
+    numbers = numbers_behind(kind, row, MOST_FIGURES)
     if numbers is None or len(numbers) != 3 or numbers[2] > 10 ** 30:
         return None
     return (kind, numbers[0], numbers[1], numbers[2])
 
 
 def turn_told(place, row):
-    numbers = numbers_behind("about", row)
+    numbers = numbers_behind("about", row, MOST_FIGURES)
     if numbers is None or numbers == [] or numbers[0] != place:
         return None
     return numbers[1:]

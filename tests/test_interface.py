@@ -49,13 +49,25 @@ FUNCTIONS = {
     "worths": {"worths": ["web", "order"]},
     "powers": {"tables_joined": ["one", "two", "modulus"], "table_power": ["table", "times", "modulus"]},
     "strips": {"step_table": ["pattern"], "strip_least": ["pattern", "columns", "modulus"]},
+    "longrun": {"long_run": ["pattern"]},
+    "climbs": {
+        "climb": ["web", "start", "goal"],
+        "shore": ["web", "start", "height"],
+        "falls": ["web", "start"],
+        "resting": ["web"],
+    },
+    "stripwebs": {"strip_web": ["pattern", "columns"]},
+    "answers": {"shown": ["found"], "taken": ["text"], "settles": ["web", "text"], "answer": ["text"]},
 }
 MADE_WITH = {
     "errors": {"BadText": ["at"], "NoLaying": ["at"]},
     "ties": {kind: ["one", "two", "strength"] for kind in ["Tie", "Pull", "Push"]},
     "webs": {"Web": ["many", "ties", "turns"]},
+    "desk": {"Desk": ["text"]},
 }
 TIE_METHODS = {"wish": [], "unpleased": ["laying"], "price": ["laying"], "signed": [], "across": ["place"]}
+
+DESK_METHODS = {"do": ["row"], "left": [], "text": [], "answer": [], "roof": ["number"]}
 
 
 def found(module, name):
@@ -80,6 +92,22 @@ class Interface(unittest.TestCase):
         for kind in ["Tie", "Pull", "Push"]:
             for name, arguments in TIE_METHODS.items():
                 self.holds(getattr(found("ties", kind), name), ["self"] + arguments)
+
+    def test_methods_of_the_desk(self):
+        for name, arguments in DESK_METHODS.items():
+            self.holds(getattr(found("desk", "Desk"), name), ["self"] + arguments)
+
+    def test_values_where_none_is_handed_in(self):
+        told = {("allleast", "all_least"): 64, ("fronts", "fronts"): None, ("tables", "least_many"): None,
+                ("worths", "worths"): None}
+        for module, names in FUNCTIONS.items():
+            for name in names:
+                values = [each.default for each in inspect.signature(found(module, name)).parameters.values()]
+                empty = inspect.Parameter.empty
+                if (module, name) in told:
+                    self.assertEqual(values, [empty] * (len(values) - 1) + [told[module, name]])
+                else:
+                    self.assertEqual(values, [empty] * len(values))
 
 
 if __name__ == "__main__":

@@ -59,6 +59,10 @@ def bound_within(tree):
     return within + [node.name for node in ast.walk(tree) if isinstance(node, ast.ExceptHandler) and node.name]
 
 
+def called(call):
+    return getattr(call.func, "id", None) or getattr(call.func, "attr", None)
+
+
 class Language(unittest.TestCase):
     def setUp(self):
         self.texts = sources()
@@ -160,10 +164,38 @@ class Language(unittest.TestCase):
                         self.assertIsInstance(part, plain, f"{name}.py:{node.lineno}")
 
     def test_walked_at_once(self):
-        # Where these stand bare in an assignment or a return they would be kept.
-        for where, node in self.every((ast.Assign, ast.Return)):
-            if isinstance(node.value, ast.Call) and isinstance(node.value.func, ast.Name):
-                self.assertNotIn(node.value.func.id, ("zip", "enumerate", "reversed", "range", "set", "frozenset"), where)
+        walked = ("zip", "enumerate", "reversed", "range", "items", "keys", "values")
+        takers = ("list", "tuple", "dict", "sorted", "sum", "any", "all", "enumerate", "zip", "min", "max", "join")
+        for tree_name, tree in self.trees.items():
+            for parent in ast.walk(tree):
+                for node in ast.iter_child_nodes(parent):
+                    if isinstance(node, ast.Call) and called(node) in walked:
+                        fits = isinstance(parent, (ast.For, ast.comprehension)) and parent.iter is node
+                        fits = fits or isinstance(parent, ast.Call) and called(parent) in takers and parent.args[0] is node
+                        self.assertTrue(fits, f"{tree_name}.py:{node.lineno}")
+
+    def test_sets(self):
+        for tree_name, tree in self.trees.items():
+            for parent in ast.walk(tree):
+                for node in ast.iter_child_nodes(parent):
+                    if isinstance(node, ast.Call) and called(node) in ("set", "frozenset"):
+                        fits = isinstance(parent, ast.Call) and called(parent) in ("sorted", "len")
+                        self.assertTrue(fits and not parent.keywords, f"{tree_name}.py:{node.lineno}")
+
+    def test_lists_stay_while_they_are_walked(self):
+        changes = ("append", "clear", "extend", "insert", "pop", "remove", "reverse", "setdefault", "update")
+        for where, node in self.every(ast.For):
+            walked = [each.id for each in ast.walk(node.iter) if isinstance(each, ast.Name)]
+            for part in [inner for row in node.body for inner in ast.walk(row)]:
+                if isinstance(part, ast.Call) and called(part) in changes and isinstance(part.func.value, ast.Name):
+                    self.assertNotIn(part.func.value.id, walked, where)
+                if isinstance(part, ast.Subscript) and isinstance(part.ctx, ast.Store):
+                    if isinstance(part.value, ast.Name) and not isinstance(node.iter, ast.Subscript):
+                        self.assertNotIn(part.value.id, walked, where)
+
+    def test_one_plain_target(self):
+        for where, node in self.every(ast.Assign):
+            self.assertIsInstance(node.targets[0], (ast.Name, ast.Attribute, ast.Subscript), where)
 
     def test_texts_by_themselves(self):
         docs = {id(tree.body[0]) for tree in self.trees.values()}
