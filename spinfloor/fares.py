@@ -7,11 +7,6 @@ def beyond(link, room):
     return link[1] if room == link[0] else link[0]
 
 
-def nearest(told, done):
-    waiting = [room for room, fare in enumerate(told) if fare is not None and room not in done]
-    return min(waiting, key=lambda room: told[room], default=None)
-
-
 def links_at(many, links):
     at = [[] for room in range(many)]
     for number, link in enumerate(links):
@@ -24,20 +19,20 @@ def fares(many, links, start):
     at = links_at(many, links)
     told = [None for room in range(many)]
     via = [None for room in range(many)]
-    done = {}
     told[start] = 0
-    room = start
-    while room is not None:
-        done[room] = True
+    waiting = {start: True}
+    while waiting != {}:
+        room = min(waiting, key=lambda each: told[each])
+        waiting.pop(room)
         for number in at[room]:
             there = beyond(links[number], room)
             fare = told[room] + links[number][2]
-            # Only a lesser fare counts: so a room that is done keeps its link, and links of length
-            # nought never lead back in a ring.
+            # Only a lesser fare counts: so a room that was gone through keeps its link, and links of length nought
+            # never lead back in a ring.
             if told[there] is None or fare < told[there]:
                 told[there] = fare
                 via[there] = number
-        room = nearest(told, done)
+                waiting[there] = True
     return (told, via)
 
 
